@@ -1,0 +1,1 @@
+"""Levelcord: the most level row between two bounds."""
