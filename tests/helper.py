@@ -44,6 +44,11 @@ def no_numbers():
     ]
 
 
+def no_rows():
+    """Things of any kind that are neither rows nor steps."""
+    return [thing for thing in no_numbers() if thing != ((1, 1), (1, 1))]
+
+
 def great_number(source):
     """A number with a top of at most 10 ** 9 either way and a bottom of at most 10 ** 6."""
     return num(Fraction(source.randint(-10 ** 9, 10 ** 9), source.randint(1, 10 ** 6)))
@@ -51,3 +56,107 @@ def great_number(source):
 
 def small_number(source):
     return num(Fraction(source.randint(-6, 6), source.choice((1, 1, 1, 2, 3))))
+
+
+def refused(error, call, *things):
+    """The refusal that a call raises; it must be of just this class."""
+    try:
+        answer = call(*things)
+    except ValueError as caught:
+        assert caught.__class__ is error, f"{caught!r} in the place of {error.__name__}, of {things!r}"
+        return caught
+    raise AssertionError(f"{answer!r} in the place of {error.__name__}, of {things!r}")
+
+
+def spoilt(thing):
+    """The thing with one of its parts, at any depth, put wrongly; so too with a part too few or too many within."""
+    wrong = [None, True, False, "x", b"1", [1], (), {}, {1}]
+    if isinstance(thing, tuple):
+        wrong += [list(thing), dict(enumerate(thing))]
+    yield from wrong
+    if not isinstance(thing, tuple):
+        return
+    for at, part in enumerate(thing):
+        others = list(spoilt(part))
+        if isinstance(part, tuple):
+            others += [part[:-1], part + part[-1:], (part,)]
+        if is_whole_pair(part):
+            others += [(2 * part[0], 2 * part[1]), (-part[0], -part[1]), (part[0], 0)]
+        for other in others:
+            yield thing[:at] + (other,) + thing[at + 1:]
+
+
+def is_whole_pair(thing):
+    return isinstance(thing, tuple) and len(thing) == 2 and all(part.__class__ is int for part in thing)
+
+
+def tied(lows_and_highs):
+    """A tube of Python's own numbers, its ends tied to their lows."""
+    pairs = [(Fraction(low), Fraction(high)) for low, high in lows_and_highs]
+    pairs[0] = (pairs[0][0], pairs[0][0])
+    pairs[-1] = (pairs[-1][0], pairs[-1][0])
+    return tuple((num(low), num(high)) for low, high in pairs)
+
+
+def drawn_number(source, kind):
+    if kind == "small":
+        return Fraction(source.randint(-4, 4))
+    if kind == "parts":
+        return Fraction(source.randint(-9, 9), source.choice((1, 2, 3)))
+    return frac(great_number(source))
+
+
+def drawn_tube(source, places, kind):
+    """A tied tube of one of these kinds: small, parts, great, narrow, straight, touching."""
+    if kind in ("small", "parts", "great"):
+        return tied(sorted((drawn_number(source, kind), drawn_number(source, kind))) for k in range(places))
+    if kind == "narrow":
+        bases = [Fraction(source.randint(-10 ** 9, 10 ** 9), 10 ** 6) for k in range(places)]
+        return tied((base, base + Fraction(source.randint(0, 2), 10 ** 6)) for base in bases)
+    if kind == "straight":
+        slope = Fraction(source.randint(-5, 5), source.randint(1, 4))
+        return tied((slope * k - source.randint(0, 3) * (0 < k < places - 1), slope * k + source.randint(0, 3))
+                    for k in range(places))
+    return tied(source.choice(((0, 0), (0, 1), (1, 1), (-1, 0), (0, 2), (k % 2, k % 2 + 1))) for k in range(places))
+
+
+KINDS = ("small", "parts", "great", "narrow", "straight", "touching")
+
+
+def drawn_tubes(seed, rounds, sizes):
+    """Tied tubes of all kinds, each round with one of the sizes for each kind."""
+    source = drawn(seed)
+    for k in range(rounds):
+        for kind in KINDS:
+            yield drawn_tube(source, source.choice(sizes), kind)
+
+
+def drawn_rows(source, tube, many):
+    """Rows of a tube: at its lows, at its highs, at either, and between."""
+    rows = [tuple(low for low, high in tube), tuple(high for low, high in tube)]
+    for k in range(many):
+        rows.append(tuple(source.choice(place) for place in tube))
+        rows.append(nums(frac(low) + (frac(high) - frac(low)) * Fraction(source.randint(0, 6), 6)
+                         for low, high in tube))
+    return rows
+
+
+def steps_of(row):
+    heights = fracs(row)
+    return [after - ahead for ahead, after in zip(heights, heights[1:])]
+
+
+def is_surely_taut(tube, row):
+    """Whether a row is the cord of a tied tube, by the words alone."""
+    if len(row) != len(tube):
+        return False
+    climbs = steps_of(row)
+    for at, (low, high) in enumerate(tube):
+        if not frac(low) <= frac(row[at]) <= frac(high):
+            return False
+        if 0 < at < len(tube) - 1:
+            if climbs[at] > climbs[at - 1] and row[at] != high:
+                return False
+            if climbs[at] < climbs[at - 1] and row[at] != low:
+                return False
+    return True

@@ -1,0 +1,70 @@
+"""Nothing that is handed in is changed, and what was told is the asker's own."""
+
+import unittest
+from copy import deepcopy
+
+from levelcord.cords import bends, cord, is_taut
+from levelcord.errors import CordError
+from levelcord.levellings import between, levelled, to_cord
+from levelcord.measures import greatest_sums, is_least_at_nought, is_measure, squares, worth
+from levelcord.numbers import is_number
+from levelcord.numbertexts import read_number
+from levelcord.tubes import is_row, is_tied, is_tube, row_of, steps
+from tests.helper import nums, spoilt, tied
+
+TUBE = tied([(0, 0), (1, 3), (0, 1), (2, 2)])
+ROW = nums((0, 3, 0, 2))
+GIVEN = nums((3, -3, 2))
+MEASURE = (("above", (1, 2), (1, 1)), ("below", (0, 1), (2, 1)))
+WALK = ((0, 1, (1, 2)), (2, 1, (1, 1)))
+CALLS = (
+    (is_number, (1, 2)), (read_number, "1/2"), (is_tube, TUBE), (is_tied, TUBE), (is_row, TUBE, ROW), (steps, ROW),
+    (row_of, (1, 2), GIVEN), (cord, TUBE), (is_taut, TUBE, ROW), (bends, ROW), (is_measure, MEASURE),
+    (worth, MEASURE, ROW), (is_least_at_nought, MEASURE), (greatest_sums, ROW), (squares, ROW), (levelled, GIVEN, WALK),
+    (to_cord, TUBE, ROW), (between, GIVEN, nums((1, 1, 0))),
+)
+
+
+def answered(call, things):
+    try:
+        return call(*things)
+    except CordError as refusal:
+        return (refusal.__class__, vars(refusal))
+
+
+class TestKept(unittest.TestCase):
+    def test_nothing_handed_in_is_changed(self):
+        for call, *things in CALLS:
+            for at, thing in enumerate(things):
+                for other in [thing, list(thing)] + list(spoilt(thing)):
+                    handed = things[:at] + [other] + things[at + 1:]
+                    before = deepcopy(handed)
+                    first = answered(call, handed)
+                    self.assertEqual(repr(handed), repr(before))
+                    self.assertEqual(answered(call, before), first)
+
+    def test_what_was_told_is_told_again(self):
+        first = [answered(call, things) for call, *things in CALLS]
+        for call, *things in reversed(CALLS):
+            for thing in spoilt(things[0]):
+                answered(call, [thing] + things[1:])
+        self.assertEqual([answered(call, things) for call, *things in CALLS], first)
+
+    def test_a_list_that_was_told_may_be_changed(self):
+        told = greatest_sums(ROW)
+        kept = list(told)
+        told.append((9, 1))
+        told[0] = None
+        self.assertEqual(greatest_sums(ROW), kept)
+        told.clear()
+        self.assertEqual(greatest_sums(ROW), kept)
+
+    def test_kinds_that_are_told(self):
+        for call, *things in CALLS:
+            answer = call(*things)
+            if call.__name__.startswith("is_"):
+                self.assertIs(answer.__class__, bool)
+            elif call is greatest_sums:
+                self.assertIs(answer.__class__, list)
+            else:
+                self.assertIs(answer.__class__, tuple)
