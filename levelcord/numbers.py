@@ -61,3 +61,21 @@ def parted(one, other):
 def is_less(one, other):
     """Tells whether the one is less than the other."""
     return one[0] * other[1] < other[0] * one[1]
+
+
+def least_of(numbers):
+    """Tells the least of some numbers, at least one."""
+    least = numbers[0]
+    for one in numbers:
+        if is_less(one, least):
+            least = one
+    return least
+
+
+def greatest_of(numbers):
+    """Tells the greatest of some numbers, at least one."""
+    greatest = numbers[0]
+    for one in numbers:
+        if is_less(greatest, one):
+            greatest = one
+    return greatest

@@ -1,7 +1,7 @@
 """Tubes, their rows, and the steps of rows."""
 
 from levelcord.errors import NoNumber, NoRow, NoTube
-from levelcord.numbers import added, is_less, is_number, taken
+from levelcord.numbers import NOUGHT, added, greatest_of, is_less, is_number, least_of, taken
 
 MOST_PLACES = 25
 
@@ -43,11 +43,16 @@ def is_within(place, height):
 
 def is_row(tube, thing):
     """Tells whether a thing of any kind is a row of a tube; what is no tube is refused with NoTube."""
-    if not is_tube(tube):
-        raise NoTube("this is no tube")
+    want_tube(tube)
     if not are_numbers(thing, len(tube), len(tube)):
         return False
     return all([is_within(place, height) for place, height in zip(tube, thing)])
+
+
+def want_tube(tube):
+    """Refuses what is no tube with NoTube."""
+    if not is_tube(tube):
+        raise NoTube("this is no tube")
 
 
 def want_tied(tube):
@@ -83,3 +88,18 @@ def row_of(first, steps):
     for step in steps:
         row.append(added(row[-1], step))
     return tuple(row)
+
+
+def height_in_all(tube):
+    """Tells the least height that is in all bounds of a tube, or None, where none is."""
+    height = greatest_of([low for low, high in tube])
+    return None if is_less(least_of([high for low, high in tube]), height) else height
+
+
+def tube_round_sums(numbers, below, above):
+    """Tells the tube of the sums of the first numbers, so much below and above them, at both ends just these."""
+    sums = row_of(NOUGHT, numbers)
+    places = [(taken(height, below), added(height, above)) for height in sums]
+    places[0] = (sums[0], sums[0])
+    places[-1] = (sums[-1], sums[-1])
+    return tuple(places)

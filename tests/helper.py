@@ -2,6 +2,7 @@
 
 import random
 from fractions import Fraction
+from itertools import product
 
 
 def drawn(seed):
@@ -106,18 +107,28 @@ def drawn_number(source, kind):
     return frac(great_number(source))
 
 
-def drawn_tube(source, places, kind):
-    """A tied tube of one of these kinds: small, parts, great, narrow, straight, touching."""
+def open_tube(lows_and_highs):
+    """A tube of Python's own numbers, as they stand."""
+    return tuple((num(low), num(high)) for low, high in lows_and_highs)
+
+
+def drawn_bounds(source, places, kind):
+    """Bounds of one of these kinds: small, parts, great, narrow, straight, touching."""
     if kind in ("small", "parts", "great"):
-        return tied(sorted((drawn_number(source, kind), drawn_number(source, kind))) for k in range(places))
+        return [sorted((drawn_number(source, kind), drawn_number(source, kind))) for k in range(places)]
     if kind == "narrow":
         bases = [Fraction(source.randint(-10 ** 9, 10 ** 9), 10 ** 6) for k in range(places)]
-        return tied((base, base + Fraction(source.randint(0, 2), 10 ** 6)) for base in bases)
+        return [(base, base + Fraction(source.randint(0, 2), 10 ** 6)) for base in bases]
     if kind == "straight":
         slope = Fraction(source.randint(-5, 5), source.randint(1, 4))
-        return tied((slope * k - source.randint(0, 3) * (0 < k < places - 1), slope * k + source.randint(0, 3))
-                    for k in range(places))
-    return tied(source.choice(((0, 0), (0, 1), (1, 1), (-1, 0), (0, 2), (k % 2, k % 2 + 1))) for k in range(places))
+        return [(slope * k - source.randint(0, 3) * (0 < k < places - 1), slope * k + source.randint(0, 3))
+                for k in range(places)]
+    return [source.choice(((0, 0), (0, 1), (1, 1), (-1, 0), (0, 2), (k % 2, k % 2 + 1))) for k in range(places)]
+
+
+def drawn_tube(source, places, kind):
+    """A tied tube of bounds of a kind."""
+    return tied(drawn_bounds(source, places, kind))
 
 
 KINDS = ("small", "parts", "great", "narrow", "straight", "touching")
@@ -129,6 +140,14 @@ def drawn_tubes(seed, rounds, sizes):
     for k in range(rounds):
         for kind in KINDS:
             yield drawn_tube(source, source.choice(sizes), kind)
+
+
+def drawn_open_tubes(seed, rounds, sizes):
+    """Tubes of all kinds, tied or not, each round with one of the sizes for each kind."""
+    source = drawn(seed)
+    for k in range(rounds):
+        for kind in KINDS:
+            yield open_tube(drawn_bounds(source, source.choice(sizes), kind))
 
 
 def drawn_rows(source, tube, many):
@@ -160,3 +179,70 @@ def is_surely_taut(tube, row):
             if climbs[at] < climbs[at - 1] and row[at] != low:
                 return False
     return True
+
+
+def has_sure_touches(tube, row, climbs_to, climbs_on):
+    """Whether a row is in its tube and has the high where it bends up, the low where it bends down."""
+    for (low, high), one, ahead, on in zip(tube, row, climbs_to, climbs_on, strict=True):
+        if not frac(low) <= frac(one) <= frac(high):
+            return False
+        if on > ahead and one != high or on < ahead and one != low:
+            return False
+    return True
+
+
+def least_level(tube):
+    """The row at the least height that is in all bounds, or None."""
+    height = max(frac(low) for low, high in tube)
+    return nums([height] * len(tube)) if all(frac(high) >= height for low, high in tube) else None
+
+
+def straight_between(fixed):
+    """The heights from the first to the last of some (place, height), straight between each two."""
+    heights = [fixed[0][1]]
+    for (begin, height), (end, other) in zip(fixed, fixed[1:]):
+        heights += [height + (other - height) * k / (end - begin) for k in range(1, end - begin + 1)]
+    return heights
+
+
+def rows_of_sixths(tube):
+    """All rows of a tube of whole numbers whose heights are sixths."""
+    return product(*([num(Fraction(k, 6)) for k in range(6 * low[0], 6 * high[0] + 1)] for low, high in tube))
+
+
+def drawn_point(source, climbs):
+    """A number at, near or away from some steps."""
+    return source.choice(climbs) + source.choice((0, 0, Fraction(1, 3), -1, source.randint(-9, 9)))
+
+
+def drawn_weight(source):
+    return num(Fraction(source.randint(1, 9), source.randint(1, 4)))
+
+
+def drawn_measure(source, climbs):
+    """A measure with points at, near and away from some steps."""
+    return tuple((source.choice(("above", "below")), num(drawn_point(source, climbs)), drawn_weight(source))
+                 for k in range(source.randint(1, 6)))
+
+
+def drawn_measure_at_nought(source, climbs):
+    """A measure least at nought, with points at, near and away from some steps."""
+    parts = []
+    for k in range(source.randint(1, 6)):
+        point = drawn_point(source, climbs)
+        side = "above" if point > 0 else "below" if point < 0 else source.choice(("above", "below"))
+        parts.append((side, num(point), drawn_weight(source)))
+    return tuple(parts)
+
+
+def drawn_data(source, many):
+    """Data: great ones, small ones, or such with many neighbours alike."""
+    draw = source.choice((great_number, small_number, lambda source: num(source.randint(0, 1))))
+    return tuple(draw(source) for k in range(many))
+
+
+def drawn_price(source, data):
+    """A price: 0, a small one, a great one, or one of the size of what data differ by."""
+    apart = max(fracs(data)) - min(fracs(data))
+    return num(source.choice((0, Fraction(1, 3), source.randint(1, 10 ** 9),
+                              apart * Fraction(source.randint(0, 12), source.randint(1, 12)))))

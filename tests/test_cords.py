@@ -6,8 +6,8 @@ from levelcord.cords import bends, cord, is_taut
 from levelcord.errors import NoRow, NoTube
 from levelcord.tubes import is_row
 from tests.helper import (
-    KINDS, drawn, drawn_rows, drawn_tube, drawn_tubes, frac, is_surely_taut, no_rows, num, nums, refused, spoilt,
-    steps_of, strange, tied,
+    KINDS, drawn, drawn_rows, drawn_tube, drawn_tubes, frac, is_surely_taut, no_rows, num, nums, refused,
+    rows_of_sixths, spoilt, steps_of, straight_between, strange, tied,
 )
 
 
@@ -18,9 +18,7 @@ def rows_by_touches(tube):
         fixed = [(0, frac(tube[0][0]))]
         fixed += [(at, frac(tube[at][side])) for at, side in enumerate(choice, 1) if side is not None]
         fixed += [(len(tube) - 1, frac(tube[-1][0]))]
-        heights = [fixed[0][1]]
-        for (begin, height), (end, other) in zip(fixed, fixed[1:]):
-            heights += [height + (other - height) * k / (end - begin) for k in range(1, end - begin + 1)]
+        heights = straight_between(fixed)
         if is_surely_taut(tube, nums(heights)):
             found.add(nums(heights))
     return found
@@ -49,8 +47,7 @@ class TestCord(unittest.TestCase):
         source = drawn(21)
         for k in range(12):
             tube = tied(sorted((source.randint(-1, 1), source.randint(-1, 1))) for place in range(4))
-            heights = [[num(Fraction(k, 6)) for k in range(6 * low[0], 6 * high[0] + 1)] for low, high in tube]
-            taut = [row for row in product(*heights) if is_taut(tube, row)]
+            taut = [row for row in rows_of_sixths(tube) if is_taut(tube, row)]
             self.assertEqual(taut, [cord(tube)])
 
     def test_bends_up_at_highs_and_down_at_lows_alone(self):

@@ -25,6 +25,7 @@ OUT = (
     ast.With, ast.Match, ast.Global, ast.Nonlocal, ast.Yield, ast.YieldFrom, ast.Await, ast.AsyncFunctionDef, ast.Import,
     ast.AsyncFor, ast.AsyncWith, ast.GeneratorExp, ast.NamedExpr, ast.Div, ast.MatMult,
 )
+DEFS = (ast.FunctionDef, ast.ClassDef)
 
 
 def files():
@@ -49,7 +50,7 @@ def inner_names(tree):
         for node in ast.walk(top):
             if isinstance(node, ast.arg):
                 yield node.arg
-            elif isinstance(node, ast.Name) and isinstance(node.ctx, ast.Store) and isinstance(top, ast.FunctionDef):
+            elif isinstance(node, ast.Name) and isinstance(node.ctx, ast.Store) and isinstance(top, DEFS):
                 yield node.id
 
 

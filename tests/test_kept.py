@@ -6,9 +6,12 @@ from copy import deepcopy
 from levelcord.cords import bends, cord, is_taut
 from levelcord.errors import CordError
 from levelcord.levellings import between, levelled, to_cord
+from levelcord.looseends import is_loosely_taut, loose_cord
 from levelcord.measures import greatest_sums, is_least_at_nought, is_measure, squares, worth
 from levelcord.numbers import is_number
 from levelcord.numbertexts import read_number
+from levelcord.rings import is_ring, is_ring_taut, ring_cord, ring_steps
+from levelcord.smoothing import costs, smoothed, tube_of
 from levelcord.tubes import is_row, is_tied, is_tube, row_of, steps
 from tests.helper import nums, spoilt, tied
 
@@ -21,7 +24,9 @@ CALLS = (
     (is_number, (1, 2)), (read_number, "1/2"), (is_tube, TUBE), (is_tied, TUBE), (is_row, TUBE, ROW), (steps, ROW),
     (row_of, (1, 2), GIVEN), (cord, TUBE), (is_taut, TUBE, ROW), (bends, ROW), (is_measure, MEASURE),
     (worth, MEASURE, ROW), (is_least_at_nought, MEASURE), (greatest_sums, ROW), (squares, ROW), (levelled, GIVEN, WALK),
-    (to_cord, TUBE, ROW), (between, GIVEN, nums((1, 1, 0))),
+    (to_cord, TUBE, ROW), (between, GIVEN, nums((1, 1, 0))), (loose_cord, TUBE), (is_loosely_taut, TUBE, ROW),
+    (is_ring, TUBE), (ring_steps, ROW), (ring_cord, TUBE), (is_ring_taut, TUBE, ROW), (tube_of, GIVEN, (1, 2)),
+    (smoothed, GIVEN, (1, 2)), (costs, GIVEN, (1, 2), nums((1, 1, 0))),
 )
 
 

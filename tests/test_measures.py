@@ -6,22 +6,13 @@ from levelcord.cords import cord
 from levelcord.errors import NoMeasure, NoRow
 from levelcord.measures import greatest_sums, is_least_at_nought, is_measure, squares, worth
 from tests.helper import (
-    drawn, drawn_rows, drawn_tubes, frac, fracs, no_numbers, no_rows, num, nums, refused, spoilt, steps_of, strange,
+    drawn, drawn_measure, drawn_rows, drawn_tubes, frac, fracs, no_numbers, no_rows, num, nums, refused, spoilt,
+    steps_of, strange,
 )
 
 NOUGHT, ONE, HALF, LESS = (0, 1), (1, 1), (1, 2), (-1, 2)
 PLAIN = (("above", NOUGHT, ONE), ("below", LESS, HALF))
 ROW = nums((0, 3, 2, 2, Fraction(1, 2)))
-
-
-def drawn_measure(source, climbs):
-    """A measure with points at, near and away from some steps."""
-    parts = []
-    for k in range(source.randint(1, 6)):
-        point = source.choice(climbs) + source.choice((0, 0, Fraction(1, 3), -1, source.randint(-9, 9)))
-        weight = Fraction(source.randint(1, 9), source.randint(1, 4))
-        parts.append((source.choice(("above", "below")), num(point), num(weight)))
-    return tuple(parts)
 
 
 def worth_by_words(measure, row):
