@@ -2,7 +2,7 @@
 
 from levelcord.cords import bends_from, has_touches, taut_row
 from levelcord.numbers import NOUGHT, greatest_of
-from levelcord.tubes import differences, height_in_all, is_row, want_tube
+from levelcord.tubes import differences, is_row, want_tube
 
 
 def highest_low(tube):
@@ -23,11 +23,9 @@ def mirrored(tube, begin):
 def loose_cord(tube):
     """Tells a row that is taut with loose ends, the least level one, if any is; what is no tube is refused."""
     want_tube(tube)
-    height = height_in_all(tube)
-    if height is not None:
-        return (height,) * len(tube)
-    # The row goes through each greatest low. In a mirror at each end it goes level from that end to its image,
-    # so a taut row between the two images of one such place is taut with loose ends between the mirrors.
+    # The row goes through each greatest low, and stays level there where this height is in all bounds.
+    # In a mirror at each end it goes level from that end to its image, so a taut row between the two images
+    # of one such place is taut with loose ends between the mirrors.
     begin = highest_low(tube)
     return taut_row(mirrored(tube, begin))[begin + 1:begin + 1 + len(tube)]
 

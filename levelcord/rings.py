@@ -3,7 +3,7 @@
 from levelcord.cords import bends_from, has_touches, taut_row
 from levelcord.errors import NoRow, NoTube
 from levelcord.looseends import highest_low
-from levelcord.tubes import are_numbers, differences, height_in_all, is_row, is_tube
+from levelcord.tubes import are_numbers, differences, is_row, is_tube
 
 LEAST_PLACES = 3
 MOST_PLACES = 24
@@ -30,10 +30,8 @@ def ring_steps(row):
 def ring_cord(tube):
     """Tells a row that is taut round a ring, the least level one, if any is; what is no ring is refused."""
     want_ring(tube)
-    height = height_in_all(tube)
-    if height is not None:
-        return (height,) * len(tube)
-    # the row goes through each greatest low, so the ring may be cut and tied at one of them
+    # the row goes through each greatest low, and stays level there where this height is in all bounds;
+    # so the ring may be cut and tied at one of them
     begin = highest_low(tube)
     low = tube[begin][0]
     row = taut_row(((low, low),) + tube[begin + 1:] + tube[:begin] + ((low, low),))

@@ -1,7 +1,7 @@
 """Tubes, their rows, and the steps of rows."""
 
 from levelcord.errors import NoNumber, NoRow, NoTube
-from levelcord.numbers import NOUGHT, added, greatest_of, is_less, is_number, least_of, taken
+from levelcord.numbers import NOUGHT, added, is_less, is_number, taken
 
 MOST_PLACES = 25
 
@@ -88,12 +88,6 @@ def row_of(first, steps):
     for step in steps:
         row.append(added(row[-1], step))
     return tuple(row)
-
-
-def height_in_all(tube):
-    """Tells the least height that is in all bounds of a tube, or None, where none is."""
-    height = greatest_of([low for low, high in tube])
-    return None if is_less(least_of([high for low, high in tube]), height) else height
 
 
 def tube_round_sums(numbers, below, above):
