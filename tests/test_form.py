@@ -122,3 +122,8 @@ class TestForm(unittest.TestCase):
             for sign, side in zip(node.ops, node.comparators):
                 if isinstance(sign, (ast.Is, ast.IsNot)):
                     self.assertIsInstance(side, ast.Constant, f"{file.name} {node.lineno}")
+
+    def test_no_name_is_a_method_and_a_value(self):
+        methods = {row.name for file, node in walked(ast.ClassDef) for row in node.body if isinstance(row, ast.FunctionDef)}
+        values = {node.attr for file, node in walked(ast.Attribute) if isinstance(node.ctx, ast.Store)}
+        self.assertFalse(methods & values)

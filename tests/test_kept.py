@@ -5,6 +5,8 @@ from copy import deepcopy
 
 from levelcord.cords import bends, cord, is_taut
 from levelcord.errors import CordError
+from levelcord.funnels import Funnel
+from levelcord.jobs import is_jobs, job_tube, parts, speeds
 from levelcord.levellings import between, levelled, to_cord
 from levelcord.looseends import is_loosely_taut, loose_cord
 from levelcord.measures import greatest_sums, is_least_at_nought, is_measure, squares, worth
@@ -12,6 +14,8 @@ from levelcord.numbers import is_number
 from levelcord.numbertexts import read_number
 from levelcord.rings import is_ring, is_ring_taut, ring_cord, ring_steps
 from levelcord.smoothing import costs, smoothed, tube_of
+from levelcord.stairs import at_price, stair
+from levelcord.stores import bought, store_tube
 from levelcord.tubes import is_row, is_tied, is_tube, row_of, steps
 from tests.helper import nums, spoilt, tied
 
@@ -20,13 +24,25 @@ ROW = nums((0, 3, 0, 2))
 GIVEN = nums((3, -3, 2))
 MEASURE = (("above", (1, 2), (1, 1)), ("below", (0, 1), (2, 1)))
 WALK = ((0, 1, (1, 2)), (2, 1, (1, 1)))
+NEEDS = nums((3, 0, 2))
+JOBS = ((0, 2, (4, 1)), (1, 5, (1, 2)))
+
+
+def put_all(begin, places, end):
+    """What a new funnel tells on its way through places to an end."""
+    funnel = Funnel(begin)
+    told = [funnel.put(low, high) for low, high in places]
+    return (tuple(told), funnel.settled(), funnel.tube(), funnel.cord_to(end))
+
+
 CALLS = (
     (is_number, (1, 2)), (read_number, "1/2"), (is_tube, TUBE), (is_tied, TUBE), (is_row, TUBE, ROW), (steps, ROW),
     (row_of, (1, 2), GIVEN), (cord, TUBE), (is_taut, TUBE, ROW), (bends, ROW), (is_measure, MEASURE),
     (worth, MEASURE, ROW), (is_least_at_nought, MEASURE), (greatest_sums, ROW), (squares, ROW), (levelled, GIVEN, WALK),
     (to_cord, TUBE, ROW), (between, GIVEN, nums((1, 1, 0))), (loose_cord, TUBE), (is_loosely_taut, TUBE, ROW),
     (is_ring, TUBE), (ring_steps, ROW), (ring_cord, TUBE), (is_ring_taut, TUBE, ROW), (tube_of, GIVEN, (1, 2)),
-    (smoothed, GIVEN, (1, 2)), (costs, GIVEN, (1, 2), nums((1, 1, 0))),
+    (smoothed, GIVEN, (1, 2)), (costs, GIVEN, (1, 2), nums((1, 1, 0))), (stair, GIVEN),
+    (store_tube, NEEDS, (1, 2)), (bought, NEEDS, (1, 2)), (is_jobs, JOBS), (job_tube, JOBS), (speeds, JOBS), (parts, JOBS),
 )
 
 
@@ -63,6 +79,23 @@ class TestKept(unittest.TestCase):
         self.assertEqual(greatest_sums(ROW), kept)
         told.clear()
         self.assertEqual(greatest_sums(ROW), kept)
+
+    def test_stairs_and_funnels_keep_what_they_told(self):
+        told = stair(GIVEN)
+        kept = deepcopy(told)
+        rows = [at_price(told, price) for price in nums((0, 1, 2, 99))]
+        kept_rows = deepcopy(rows)
+        self.assertEqual(stair(nums((1, 2, 1)))[0][0], (0, 1))
+        self.assertEqual([at_price(told, price) for price in nums((0, 1, 2, 99))], kept_rows)
+        self.assertEqual((told, rows), (kept, kept_rows))
+        funnel = Funnel((0, 1))
+        first = (funnel.put((1, 1), (2, 1)), funnel.put((0, 1), (1, 2)), funnel.settled(), funnel.tube())
+        row = funnel.cord_to((0, 1))
+        kept = deepcopy((first, row))
+        for low in nums((9, -9, 9)):
+            funnel.put(low, low)
+        self.assertEqual((first, row), kept)
+        self.assertEqual(put_all((0, 1), TUBE[1:], (2, 1)), put_all((0, 1), TUBE[1:], (2, 1)))
 
     def test_kinds_that_are_told(self):
         for call, *things in CALLS:
