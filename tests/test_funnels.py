@@ -7,49 +7,9 @@ from levelcord.errors import NoNumber, NoRow, NoTube
 from levelcord.funnels import Funnel
 from levelcord.tubes import is_tube
 from tests.helper import (
-    KINDS, drawn, drawn_bounds, frac, is_surely_taut, no_numbers, num, nums, open_tube, refused, spoilt, tied,
+    KINDS, drawn, drawn_bounds, drawn_places, frac, is_surely_taut, no_numbers, num, nums, open_tube, refused, spoilt,
+    tied, touches_by_words,
 )
-
-
-def shown(places, begin, height, side):
-    """The touch through a high (side 1) or a low (side 0) that shows behind another one, by the words alone."""
-    sign = 1 if side else -1
-    highs = [sign * frac(place[side]) for place in places]
-    lows = [sign * frac(place[1 - side]) for place in places]
-    height *= sign
-    for at in range(begin + 1, len(places)):
-        line = [height + (highs[at] - height) * (k - begin) / (at - begin) for k in range(len(places))]
-        if any(highs[k] < line[k] or lows[k] > line[k] for k in range(begin + 1, at + 1)):
-            continue
-        for later in range(at + 1, len(places)):
-            if lows[later] > line[later] and all(highs[k] > line[k] for k in range(at + 1, later)):
-                return (at, places[at][side])
-    return None
-
-
-def touches_by_words(places):
-    found = []
-    begin, height = 0, frac(places[0][0])
-    while True:
-        both = [touch for touch in (shown(places, begin, height, 0), shown(places, begin, height, 1)) if touch]
-        if not both:
-            return tuple(found)
-        assert len(both) == 1
-        found += both
-        begin, height = both[0][0], frac(both[0][1])
-
-
-def drawn_places(seed, rounds, sizes):
-    """Bounds that begin with a tied place, of all kinds, and such that go on and on between two lines."""
-    source = drawn(seed)
-    for k in range(rounds):
-        for kind in KINDS:
-            tube = open_tube(drawn_bounds(source, source.choice(sizes), kind))
-            yield ((tube[0][0],) * 2,) + tube[1:]
-        base, wide = Fraction(source.randint(-3, 3)), source.randint(1, 6)
-        bounds = [(base * k + source.randint(-2, 0) - wide, base * k + wide + source.randint(0, 2))
-                  for k in range(1, source.choice(sizes))]
-        yield (nums((0, 0)),) + open_tube(bounds)
 
 
 def filled(places):

@@ -9,35 +9,11 @@ from levelcord.measures import squares, worth
 from levelcord.numbers import is_number
 from levelcord.tubes import is_tied, row_of, steps
 from tests.helper import (
-    drawn, drawn_measure, drawn_rows, frac, fracs, great_number, no_numbers, num, nums, refused, small_number, spoilt,
-    steps_of, strange,
+    all_jobs, drawn, drawn_measure, drawn_rows, frac, fracs, no_numbers, nums, refused, spoilt, steps_of, strange,
 )
 
 ONE, HALF = (1, 1), (1, 2)
 JOBS = ((0, 2, (4, 1)), (1, 5, (1, 1)), (3, 5, (3, 1)))
-
-
-def drawn_work(source):
-    work = source.choice((great_number, small_number))(source)
-    return num(abs(frac(work)) or Fraction(1, 7))
-
-
-def drawn_jobs(source, many, hours):
-    """Jobs with arrivals and dues not falling, some of neighbours alike."""
-    while True:
-        arrivals = sorted(source.randint(0, hours - 1) for k in range(many))
-        dues = sorted(source.randint(1, hours) for k in range(many))
-        if source.random() < 0.5:
-            dues = sorted(max(due, arrival + 1) for due, arrival in zip(dues, arrivals))
-        if all(arrival < due for arrival, due in zip(arrivals, dues)):
-            return tuple((arrival, due, drawn_work(source)) for arrival, due in zip(arrivals, dues))
-
-
-def all_jobs(seed, rounds):
-    source = drawn(seed)
-    for k in range(rounds):
-        for many in range(1, 13):
-            yield drawn_jobs(source, many, source.choice((1, 2, 3, 6, 12, 24, 24)))
 
 
 def no_jobs():

@@ -8,21 +8,12 @@ from levelcord.measures import squares, worth
 from levelcord.stores import bought, store_tube
 from levelcord.tubes import is_tied, row_of, steps
 from tests.helper import (
-    drawn, drawn_data, drawn_measure, drawn_price, drawn_rows, frac, fracs, no_numbers, no_rows, num, nums, refused,
-    spoilt, steps_of,
+    drawn, drawn_measure, drawn_rows, drawn_stores, frac, fracs, no_numbers, no_rows, num, nums, refused, spoilt,
+    steps_of,
 )
 
 NEEDS = nums((3, 0, Fraction(1, 2)))
 ROOMS = nums((0, Fraction(1, 10 ** 6), Fraction(1, 3), 1, 7, 10 ** 9))
-
-
-def drawn_stores(seed, rounds, lengths):
-    """Needs, 0 among them, and a room."""
-    source = drawn(seed)
-    for k in range(rounds):
-        for many in lengths:
-            needs = nums(source.choice((1, 1, 1, 0)) * abs(one) for one in fracs(drawn_data(source, many)))
-            yield needs, drawn_price(source, needs)
 
 
 def stored(needs, plan):
