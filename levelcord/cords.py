@@ -10,7 +10,7 @@ def rise(begin, height, at, other_height):
 
 
 def next_touch(places, begin, height):
-    """Tells (place, height) of the next bend that shows behind a place on the cord, or None, where none does."""
+    """Tells the next touch (place, height) behind a place on the cord and the place that shows it, or None."""
     if begin + 1 == len(places):
         return None
     low_at = high_at = begin + 1
@@ -20,9 +20,9 @@ def next_touch(places, begin, height):
         to_low = rise(begin, height, at, places[at][0])
         to_high = rise(begin, height, at, places[at][1])
         if is_less(flattest_high, to_low):
-            return (high_at, places[high_at][1])
+            return ((high_at, places[high_at][1]), at)
         if is_less(to_high, steepest_low):
-            return (low_at, places[low_at][0])
+            return ((low_at, places[low_at][0]), at)
         # of several on one line the last one: at those ahead of it the cord goes straight on
         if not is_less(to_low, steepest_low):
             low_at, steepest_low = at, to_low
@@ -44,8 +44,8 @@ def taut_row(places):
     row = [places[0][0]]
     while len(row) < len(places):
         begin, height = len(row) - 1, row[-1]
-        touch = next_touch(places, begin, height)
-        row.extend(straight_on(begin, height, end if touch is None else touch))
+        shown = next_touch(places, begin, height)
+        row.extend(straight_on(begin, height, end if shown is None else shown[0]))
     return tuple(row)
 
 

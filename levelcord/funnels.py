@@ -14,6 +14,7 @@ class Funnel:
             raise NoNumber("a funnel begins with a number")
         self.places = [(begin, begin)]
         self.touches = [(0, begin)]
+        self.showing = []
 
     def put(self, low, high):
         """Takes a place and tells the touches that are settled anew; refused is NoTube."""
@@ -21,20 +22,26 @@ class Funnel:
             raise NoTube("this makes no tube")
         self.places.append((low, high))
         known = len(self.touches)
-        touch = self.touch_behind()
-        while touch is not None:
+        shown = self.shown_behind()
+        while shown is not None:
+            touch, by = shown
             self.touches.append(touch)
-            touch = self.touch_behind()
+            self.showing.append(by)
+            shown = self.shown_behind()
         return tuple(self.touches[known:])
 
-    def touch_behind(self):
-        """Tells the touch that shows behind the last settled one, or None."""
+    def shown_behind(self):
+        """Tells the touch that shows behind the last settled one and the place that shows it, or None."""
         place, height = self.touches[-1]
         return next_touch(self.places, place, height)
 
     def settled(self):
         """Tells all touches that are settled, without place 0."""
         return tuple(self.touches[1:])
+
+    def shown_by(self):
+        """Tells for each settled touch, without place 0, a later place that shows it."""
+        return tuple(self.showing)
 
     def tube(self):
         """Tells all places, with place 0."""
